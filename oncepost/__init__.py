@@ -1,0 +1,1 @@
+"""Oncepost: services that commit rows and messages together."""

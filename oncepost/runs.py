@@ -1,0 +1,76 @@
+"""Runs of handlers, without a look at the forms of what is passed."""
+
+from oncepost.forms import BOUND
+
+
+def combined(sign, left, right):
+    """The two values added, subtracted or multiplied, held within the bounds."""
+    if sign == "+":
+        result = left + right
+    elif sign == "-":
+        result = left - right
+    else:
+        result = left * right
+    return max(-BOUND, min(BOUND, result))
+
+
+class Run:
+    """The run of a handler on a message: the rows as they are now, and what was sent."""
+
+    def __init__(self, rows, message):
+        self.key = message[1]
+        self.body = message[2]
+        self.table = {place: value for place, value in rows}
+        self.sends = []
+
+    def rows(self):
+        """The rows as a tuple."""
+        places = sorted(self.table)
+        return tuple([(place, self.table[place]) for place in places if self.table[place] != 0])
+
+    def worth(self, expression):
+        """The value of an expression."""
+        head = expression[0]
+        if head == "value":
+            return expression[1]
+        if head == "body":
+            return self.body
+        if head == "row":
+            return self.table.get((expression[1], self.key), 0)
+        return combined(head, self.worth(expression[1]), self.worth(expression[2]))
+
+    def holds(self, condition):
+        """Whether a condition holds."""
+        head = condition[0]
+        if head == "<":
+            return self.worth(condition[1]) < self.worth(condition[2])
+        if head == "=":
+            return self.worth(condition[1]) == self.worth(condition[2])
+        # A list, since all parts are evaluated, whatever the first one tells.
+        parts = [self.holds(part) for part in condition[1:]]
+        if head == "not":
+            return not parts[0]
+        if head == "and":
+            return all(parts)
+        return any(parts)
+
+    def do_all(self, deeds):
+        """Does the deeds in order; whether none of them failed."""
+        for deed in deeds:
+            if not self.do_one(deed):
+                return False
+        return True
+
+    def do_one(self, deed):
+        """Does a deed; whether it did not fail."""
+        head = deed[0]
+        if head == "fail":
+            return False
+        if head == "if":
+            return self.do_all(deed[2] if self.holds(deed[1]) else deed[3])
+        if head == "set":
+            self.table[(deed[1], self.key)] = self.worth(deed[2])
+        else:
+            key = self.key if deed[2] is None else deed[2]
+            self.sends.append((deed[1], key, self.worth(deed[3])))
+        return True

@@ -1,0 +1,22 @@
+"""The ways of publishing, keeping and answering."""
+
+
+class Ways:
+    """The words of each part of a way, and all ways."""
+
+    SAFE = ("outbox", "inbox", "behind", "behind")
+    POSTING = ("outbox", "after", "before")
+    KEEPING = ("inbox", "late", "plain")
+    ANSWERING = ("behind", "ahead")
+    MARKING = ("behind", "ahead")
+
+    @staticmethod
+    def every():
+        """The 36 ways, the last part changing fastest."""
+        return [
+            (posting, keeping, answering, marking)
+            for posting in Ways.POSTING
+            for keeping in Ways.KEEPING
+            for answering in Ways.ANSWERING
+            for marking in Ways.MARKING
+        ]
