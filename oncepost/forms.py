@@ -22,6 +22,11 @@ def is_word(value):
     return all([letter in LETTERS for letter in value])
 
 
+def is_list(value):
+    """Whether it is a list, or a tuple in its place."""
+    return isinstance(value, (list, tuple))
+
+
 def is_tuple_of(value, length):
     """Whether it is a tuple of this length."""
     return isinstance(value, tuple) and len(value) == length

@@ -2,7 +2,7 @@
 
 from oncepost.errors import InvalidHandler, InvalidMessage, InvalidRows
 from oncepost.forms import is_message, is_rows, is_tuple_of, is_word
-from oncepost.runs import Run
+from oncepost.runs import run_of
 from oncepost.trees import is_condition, is_expression, row_names
 
 MOST_DEEDS = 12
@@ -91,6 +91,17 @@ def trees_of(deed):
     return (deed[-1],)
 
 
+def most_sends(deeds):
+    """How many messages a run of the deeds can send, told from the tree: a fail ends nothing."""
+    many = 0
+    for deed in deeds:
+        if deed[0] == "send":
+            many += 1
+        if deed[0] == "if":
+            many += max(most_sends(deed[2]), most_sends(deed[3]))
+    return many
+
+
 def run_handler(handler, rows, message):
     """The end of the run of a handler on rows and a message: ("done", rows, sends) or ("failed",)."""
     if not is_handler(handler):
@@ -99,7 +110,7 @@ def run_handler(handler, rows, message):
         raise InvalidRows(rows)
     if not is_message(message):
         raise InvalidMessage(message)
-    run = Run(rows, message)
-    if not run.do_all(handler):
+    run = run_of(handler, rows, message)
+    if run.failed:
         return ("failed",)
-    return ("done", run.rows(), tuple(run.sends))
+    return ("done", run.rows(), run.told())

@@ -20,3 +20,13 @@ class Ways:
             for answering in Ways.ANSWERING
             for marking in Ways.MARKING
         ]
+
+
+def is_way(value):
+    """Whether any value is one of the ways."""
+    if not isinstance(value, tuple) or len(value) != 4:
+        return False
+    posting, keeping, answering, marking = value
+    if posting not in Ways.POSTING or keeping not in Ways.KEEPING:
+        return False
+    return answering in Ways.ANSWERING and marking in Ways.MARKING
