@@ -23,7 +23,8 @@ def why(schedule, fact):
     found = {fact: True}
     waiting = [fact]
     while len(waiting) > 0:
-        for need in schedule.needs[waiting.pop()]:
+        one = waiting.pop()
+        for need in schedule.needs[one]:
             if need not in found:
                 found[need] = True
                 waiting.append(need)

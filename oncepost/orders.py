@@ -69,11 +69,11 @@ class Order:
                 continue
             step = track[numbers[lane]]
             # Each step is told by the first of its lines alone.
-            if self.lanes[step][0] == lane and self.is_next(step, numbers):
+            if self.lanes[step][0] == lane and self.comes_next(step, numbers):
                 found.append(step)
         return found
 
-    def is_next(self, step, numbers):
+    def comes_next(self, step, numbers):
         """Whether a step that is not in a whole cut is the next one on all its lines."""
         return all([self.tracks[lane][numbers[lane]] == step for lane in self.lanes[step]])
 

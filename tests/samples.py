@@ -1,6 +1,8 @@
 """Values and handlers that several tests use."""
 
 from oncepost.errors import InvalidRows, OtherWorld, TooMany
+from oncepost.schedules import Schedule
+from oncepost.systems import Service, System
 from oncepost.ways import Ways
 
 ADDER = (("set", "n", ("+", ("row", "n"), ("body",))), ("send", "told", None, ("row", "n")))
@@ -19,6 +21,11 @@ FULL = (
 
 ROWS = ((("a", "k"), 1), (("n", "j"), -99), (("n", "k"), 98))
 MESSAGE = ("add", "k", 3)
+
+
+def adder_system(crashes=1, way=Ways.SAFE):
+    """The system of the document's examples."""
+    return System(["add", "told"], [Service("adder", {"add": ADDER}, way, crashes=crashes)], [("add", "k", 3)])
 
 
 def nested(make, times, value):
@@ -64,6 +71,9 @@ def odd_values():
         TooMany(2000),
         OtherWorld(),
         Ways(),
+        Service("adder", {"add": ADDER}),
+        adder_system(),
+        Schedule(adder_system(), ("take", "add")),
         nested(lambda inner: (inner,), 19, 0),
         nested(lambda inner: [inner], 19, 0),
         nested(lambda inner: {"value": inner}, 19, 0),

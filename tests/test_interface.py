@@ -3,12 +3,70 @@
 import inspect
 import unittest
 
-from oncepost import handlers, ways
+from oncepost import facts, handlers, schedules, systems, ways
+from oncepost.ways import Ways
+from tests.samples import adder_system
 
 FUNCTIONS = [
     (handlers, "run_handler", ["handler", "rows", "message"]),
     (handlers, "footprint", ["handler"]),
     (handlers, "is_handler", ["value"]),
+    (facts, "facts", ["schedule"]),
+    (facts, "needs_of", ["schedule", "fact"]),
+    (facts, "why", ["schedule", "fact"]),
+    (facts, "is_why", ["schedule", "value"]),
+]
+
+# For each class its file, its arguments, its properties and its methods.
+CLASSES = [
+    (
+        systems,
+        "Service",
+        "(self, name, handlers, way=('outbox', 'inbox', 'behind', 'behind'), *, crashes=0, losses=0)",
+        ["name", "kinds", "way", "crashes", "losses"],
+        {"handler_for": "(self, kind)", "__eq__": "(self, other)"},
+    ),
+    (
+        systems,
+        "System",
+        "(self, kinds, services, commands=())",
+        ["kinds", "services", "commands", "world", "begin", "all_steps"],
+        {
+            "service_of": "(self, kind)",
+            "possible": "(self, state)",
+            "after": "(self, state, step)",
+            "play": "(self, *steps)",
+            "lines_of": "(self, step)",
+            "apart": "(self, one, other)",
+            "with_budgets": "(self, budgets)",
+            "with_ways": "(self, ways)",
+            "__eq__": "(self, other)",
+        },
+    ),
+    (
+        schedules,
+        "Schedule",
+        "(self, system, *steps)",
+        ["system", "steps", "end", "lines"],
+        {
+            "__len__": "(self)",
+            "is_whole": "(self)",
+            "normal": "(self)",
+            "levels": "(self)",
+            "many": "(self)",
+            "is_before": "(self, i, j)",
+            "clock": "(self, i)",
+            "is_alike": "(self, other)",
+            "exchanges": "(self, other)",
+            "cuts": "(self)",
+            "is_cut": "(self, value)",
+            "below": "(self, cut)",
+            "state_at": "(self, cut)",
+            "through": "(self, cut)",
+            "possibly": "(self, test)",
+            "surely": "(self, test)",
+        },
+    ),
 ]
 
 
@@ -19,6 +77,29 @@ class TestInterface(unittest.TestCase):
                 function = getattr(module, name)
                 self.assertEqual(function.__module__, module.__name__)
                 self.assertEqual(list(inspect.signature(function).parameters), parameters)
+
+    def test_classes(self):
+        for module, name, arguments, _, methods in CLASSES:
+            defined = vars(module)[name]
+            self.assertEqual(defined.__module__, module.__name__)
+            self.assertEqual(str(inspect.signature(defined.__init__)), arguments)
+            for method, parameters in methods.items():
+                with self.subTest(name, method=method):
+                    # In the class itself.
+                    self.assertEqual(str(inspect.signature(vars(defined)[method])), parameters)
+
+    def test_properties_are_there_when_an_object_is_created(self):
+        system = adder_system()
+        objects = [system.services[0], system, schedules.Schedule(system)]
+        for (_, _, _, properties, _), made in zip(CLASSES, objects):
+            for name in properties:
+                self.assertTrue(hasattr(made, name), name)
+
+    def test_the_default_way(self):
+        self.assertEqual(inspect.signature(systems.Service).parameters["way"].default, Ways.SAFE)
+
+    def test_cuts_is_a_generator(self):
+        self.assertTrue(inspect.isgeneratorfunction(schedules.Schedule.cuts))
 
     def test_ways(self):
         self.assertEqual(ways.Ways.__module__, "oncepost.ways")

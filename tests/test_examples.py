@@ -1,0 +1,95 @@
+"""The document's examples, word for word, but for the rows that call functions of later stages."""
+
+import unittest
+
+from oncepost import errors, facts, handlers, schedules, systems, ways
+
+FIRST = """
+>>> handler = (("set", "n", ("+", ("row", "n"), ("body",))), ("send", "told", None, ("row", "n")))
+>>> run_handler(handler, ((("n", "k"), 98),), ("add", "k", 3))
+('done', ((('n', 'k'), 99),), (('told', 'k', 99),))
+>>> run_handler((("if", ("<", ("body",), ("value", 0)), (("fail",),), ()),), (), ("add", "k", -1))
+('failed',)
+>>> footprint(handler)
+(('n',), ('n',), ('told',))
+>>> run_handler((("set", "n"),), (), ("add", "k", 3))
+raises InvalidHandler((('set', 'n'),))
+"""
+
+SECOND = """
+>>> system = System(["add", "told"], [Service("adder", {"add": handler}, crashes=1)], [("add", "k", 3)])
+>>> system.begin
+((((((0,), ('add', 'k', 3)),), 0), ((), 0)), (((), (), (), ((), None), None, 1, 0),))
+>>> state = system.play(("take", "add"), ("commit", "adder"))
+>>> state[1]
+((((('n', 'k'), 3),), ((0,),), (((0,), 1, 1),), ((((0, 0), ('told', 'k', 3)),), None), ('add', 0, (('answer',),)), 1, 0),)
+>>> system.possible(state)
+[('answer', 'add'), ('relay', 'adder', 'told'), ('crash', 'adder')]
+>>> [system.lines_of(("relay", "adder", "told")), system.apart(("answer", "add"), ("relay", "adder", "told"))]
+[(('log', 'told'), ('out', 'adder', 'told')), True]
+>>> system.play(("take", "add"), ("relay", "adder", "told"))
+raises NotPlayed(1)
+>>> plain = system.with_budgets([(0, 0)])
+"""
+
+THIRD = """
+>>> steps = (("take", "add"), ("commit", "adder"), ("relay", "adder", "told"), ("mark", "adder", "told"), ("answer", "add"))
+>>> schedule = Schedule(system, *steps)
+>>> [schedule.is_whole(), schedule.many(), len(list(schedule.cuts()))]
+[True, 3, 8]
+>>> schedule.levels()
+((('take', 'add'),), (('commit', 'adder'),), (('answer', 'add'), ('relay', 'adder', 'told')), (('mark', 'adder', 'told'),))
+>>> schedule.clock(2)
+((('hand', 'adder'), 2), (('log', 'add'), 1), (('log', 'told'), 1), (('out', 'adder', 'told'), 2))
+>>> cut = ((("hand", "adder"), 3), (("log", "add"), 1), (("log", "told"), 1), (("out", "adder", "told"), 2))
+>>> schedule.below(cut) == schedule.clock(2)
+True
+>>> schedule.possibly(("log", "told", 1)) == schedule.clock(2)
+True
+>>> schedule.surely(("log", "told", 1)) is None
+True
+>>> why(schedule, ("entry", "told", 0))
+[('commit', 'adder', 0), ('entry', 'add', 0), ('entry', 'told', 0)]
+"""
+
+
+def names():
+    """All that the modules define, by name."""
+    found = {}
+    for module in (errors, handlers, ways, systems, schedules, facts):
+        found.update(vars(module))
+    return found
+
+
+def outcome(row, known):
+    """What a row of an example shows: "" of an assignment."""
+    try:
+        code = compile(row, "example", "eval")
+    except SyntaxError:
+        exec(row, known)
+        return ""
+    try:
+        return repr(eval(code, known))
+    except (ValueError, LookupError, OverflowError) as error:
+        fields = ", ".join(repr(value) for value in vars(error).values())
+        return f"raises {type(error).__name__}({fields})"
+
+
+class TestExamples(unittest.TestCase):
+    def test_document(self):
+        known = names()
+        shown = 0
+        for block in (FIRST, SECOND, THIRD):
+            rows = block.strip().split("\n")
+            for at, row in enumerate(rows):
+                if not row.startswith(">>> "):
+                    continue
+                told = rows[at + 1] if at + 1 < len(rows) and not rows[at + 1].startswith(">>> ") else ""
+                with self.subTest(row):
+                    self.assertEqual(outcome(row[4:], known), told)
+                    shown += 1
+        self.assertEqual(shown, 23)
+
+
+if __name__ == "__main__":
+    unittest.main()
