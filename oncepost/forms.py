@@ -3,6 +3,8 @@
 BOUND = 99
 LETTERS = "abcdefghijklmnopqrstuvwxyz"
 LONGEST_WORD = 6
+# No tuple in a state is within more than six others.
+DEEPEST_TREE = 7
 
 
 def is_number(value):
@@ -51,3 +53,12 @@ def is_rows(value):
         return False
     places = [row[0] for row in value]
     return all([one < other for one, other in zip(places, places[1:])])
+
+
+def is_tree(value, deep=DEEPEST_TREE):
+    """Whether it is a tree of tuples, strings, integers and None, at most so deep."""
+    if not isinstance(value, tuple):
+        return value is None or isinstance(value, str) or is_number(value)
+    if deep == 0:
+        return False
+    return all([is_tree(part, deep - 1) for part in value])

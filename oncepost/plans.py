@@ -16,6 +16,9 @@ class Plan:
         self.all_steps = steps_of(self)
         self.ranks = {step: at for at, step in enumerate(self.all_steps)}
         self.step_lines = {step: lines_of_step(self, step) for step in self.all_steps}
+        # Sets of steps are told by masks: the bit of a step is 1 << its place in all_steps.
+        self.line_masks = masks_of_lines(self)
+        self.near_masks = [mask_near(self, step) for step in self.all_steps]
 
     def service_named(self, name):
         """The service with this name."""
@@ -27,6 +30,14 @@ class Plan:
         if not isinstance(value, tuple) or not all([isinstance(part, str) for part in value]):
             return False
         return value in self.ranks
+
+    def places_in(self, mask):
+        """The places in all_steps of the steps of a mask, ascending."""
+        return [at for at in range(len(self.all_steps)) if mask >> at & 1]
+
+    def steps_in(self, mask):
+        """The steps of a mask, a tuple in order."""
+        return tuple([self.all_steps[at] for at in self.places_in(mask)])
 
 
 def kinds_sent_by(kinds, service):
@@ -86,3 +97,20 @@ def lines_of_step(plan, step):
         return (hand, log)
     loss = ("loss", name)
     return (log, loss, out) if outbox else (hand, log, loss)
+
+
+def masks_of_lines(plan):
+    """For each line of the steps the mask of the steps with it."""
+    found = {}
+    for at, step in enumerate(plan.all_steps):
+        for line in plan.step_lines[step]:
+            found[line] = found.get(line, 0) | 1 << at
+    return found
+
+
+def mask_near(plan, step):
+    """The mask of the steps that are not apart from a step, itself among them."""
+    mask = 0
+    for line in plan.step_lines[step]:
+        mask = mask | plan.line_masks[line]
+    return mask

@@ -1,8 +1,8 @@
-"""The document's examples, word for word, but for the rows that call functions of later stages."""
+"""The document's examples, word for word, but for those of later stages."""
 
 import unittest
 
-from oncepost import errors, facts, handlers, schedules, systems, ways
+from oncepost import errors, facts, handlers, judging, papers, schedules, searches, systems, ways
 
 FIRST = """
 >>> handler = (("set", "n", ("+", ("row", "n"), ("body",))), ("send", "told", None, ("row", "n")))
@@ -30,6 +30,8 @@ SECOND = """
 >>> system.play(("take", "add"), ("relay", "adder", "told"))
 raises NotPlayed(1)
 >>> plain = system.with_budgets([(0, 0)])
+>>> [count_states(plain), by_length(plain), count_classes(plain)]
+[8, (0, 0, 0, 0, 0, 3), 1]
 """
 
 THIRD = """
@@ -52,11 +54,32 @@ True
 [('commit', 'adder', 0), ('entry', 'add', 0), ('entry', 'told', 0)]
 """
 
+FOURTH = """
+>>> [count_states(system), by_length(system), count_classes(system)]
+[28, (0, 0, 0, 0, 0, 3, 0, 12, 6), 6]
+>>> [steps for face, steps in ends(system)][0]
+(('take', 'add'), ('commit', 'adder'), ('answer', 'add'), ('relay', 'adder', 'told'), ('crash', 'adder'), ('relay', 'adder', 'told'), ('mark', 'adder', 'told'))
+>>> [len(face[0][1][0]) for face, steps in ends(system)]
+[2, 1]
+>>> needs(system, ends(system)[0][0])
+[((1, 0),)]
+>>> alike(system, plain)
+(0, ((('k', 3), ('k', 3)),), (('take', 'add'), ('commit', 'adder'), ('answer', 'add'), ('relay', 'adder', 'told'), ('crash', 'adder'), ('relay', 'adder', 'told'), ('mark', 'adder', 'told')))
+>>> [is_short(system, short_paper(system)), len(full_paper(system))]
+[True, 28]
+>>> judge(system.with_ways({"adder": ("outbox", "inbox", "behind", "ahead")}), "lost")
+('breaks', (('take', 'add'), ('commit', 'adder'), ('answer', 'add'), ('mark', 'adder', 'told'), ('crash', 'adder')))
+>>> [judge(system, "lost")[0], price(system, "again")]
+['holds', [((1, 0),)]]
+>>> mend(system, ["twice"], {"adder": [("outbox", "late", "behind", "behind"), Ways.SAFE]})
+{'adder': ('outbox', 'inbox', 'behind', 'behind')}
+"""
+
 
 def names():
     """All that the modules define, by name."""
     found = {}
-    for module in (errors, handlers, ways, systems, schedules, facts):
+    for module in (errors, handlers, ways, systems, schedules, facts, searches, papers, judging):
         found.update(vars(module))
     return found
 
@@ -79,7 +102,7 @@ class TestExamples(unittest.TestCase):
     def test_document(self):
         known = names()
         shown = 0
-        for block in (FIRST, SECOND, THIRD):
+        for block in (FIRST, SECOND, THIRD, FOURTH):
             rows = block.strip().split("\n")
             for at, row in enumerate(rows):
                 if not row.startswith(">>> "):
@@ -88,7 +111,7 @@ class TestExamples(unittest.TestCase):
                 with self.subTest(row):
                     self.assertEqual(outcome(row[4:], known), told)
                     shown += 1
-        self.assertEqual(shown, 23)
+        self.assertEqual(shown, 33)
 
 
 if __name__ == "__main__":

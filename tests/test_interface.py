@@ -3,7 +3,7 @@
 import inspect
 import unittest
 
-from oncepost import facts, handlers, schedules, systems, ways
+from oncepost import facts, handlers, judging, papers, schedules, searches, systems, ways
 from oncepost.ways import Ways
 from tests.samples import adder_system
 
@@ -15,6 +15,23 @@ FUNCTIONS = [
     (facts, "needs_of", ["schedule", "fact"]),
     (facts, "why", ["schedule", "fact"]),
     (facts, "is_why", ["schedule", "value"]),
+    (searches, "ends", ["system"]),
+    (searches, "needs", ["system", "face"]),
+    (searches, "count_states", ["system"]),
+    (searches, "by_length", ["system"]),
+    (searches, "count_classes", ["system"]),
+    (searches, "face_of", ["state"]),
+    (searches, "seen", ["system", "state"]),
+    (searches, "alike", ["one", "other"]),
+    (papers, "full_paper", ["system"]),
+    (papers, "short_paper", ["system"]),
+    (papers, "is_full", ["system", "value"]),
+    (papers, "is_short", ["system", "value"]),
+    (papers, "bars", ["system", "state", "step"]),
+    (judging, "is_so", ["system", "state", "word"]),
+    (judging, "judge", ["system", "word"]),
+    (judging, "price", ["system", "word"]),
+    (judging, "mend", ["system", "words", "choices"]),
 ]
 
 # For each class its file, its arguments, its properties and its methods.
@@ -107,6 +124,10 @@ class TestInterface(unittest.TestCase):
         self.assertEqual(list(inspect.signature(ways.Ways.every).parameters), [])
         for name in ("SAFE", "POSTING", "KEEPING", "ANSWERING", "MARKING"):
             self.assertIn(name, vars(ways.Ways))
+
+    def test_words(self):
+        self.assertEqual(judging.Words.__module__, "oncepost.judging")
+        self.assertEqual(vars(judging.Words)["ALL"], ("twice", "lost", "made", "unlike", "again"))
 
 
 if __name__ == "__main__":
