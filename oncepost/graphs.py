@@ -63,7 +63,8 @@ class Graph:
         found = [0]
         at = 0
         while at < len(found):
-            for _, after in self.exits[found[at]]:
+            exits = self.exits[found[at]]
+            for _, after in exits:
                 waiting[after] -= 1
                 if waiting[after] == 0:
                     found.append(after)

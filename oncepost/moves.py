@@ -3,7 +3,8 @@
 from oncepost.runs import run_of
 from oncepost.states import BOOK, CRASHES, HAND, INBOX, LOSSES, OUTS, ROWS
 from oncepost.states import has_ident, is_next, log_of, next_deed, part_of
-from oncepost.states import with_commit, with_entry, with_ident, with_log, with_next_done, with_part, with_service
+from oncepost.states import with_commit, with_entry, with_ident, with_log, with_next_done, with_part
+from oncepost.states import with_sent, with_service
 
 
 def out_of(plan, own, step):
@@ -97,10 +98,16 @@ def take(plan, state, step):
 
 def commit(plan, state, step):
     """The state after a commit."""
-    service = plan.service_named(step[1])
+    kind, place, _ = part_of(plan, state, step[1])[HAND]
+    after = state_committed(plan, state, kind, place)
+    return with_service(plan, after, step[1], with_next_done(part_of(plan, after, step[1])))
+
+
+def state_committed(plan, state, kind, place):
+    """The state after a run of an entry of a log is committed by the service of its kind, whatever is in its hand."""
+    service = plan.owners[kind]
     posting, keeping, _, _ = service.way
-    own = part_of(plan, state, step[1])
-    kind, place, _ = own[HAND]
+    own = part_of(plan, state, service.name)
     ident, message = log_of(plan, state, kind)[0][place]
     run = run_of(service.handler_for(kind), own[ROWS], message)
     sent = run.told()
@@ -109,17 +116,9 @@ def commit(plan, state, step):
     if keeping == "inbox":
         own = with_part(own, INBOX, with_ident(own[INBOX], ident))
     if posting == "outbox":
-        own = with_part(own, OUTS, with_sent(plan.sent_kinds[step[1]], own[OUTS], ident, sent))
+        own = with_part(own, OUTS, with_sent(plan.sent_kinds[service.name], own[OUTS], ident, sent))
     own = with_part(own, BOOK, with_commit(own[BOOK], ident, len(sent)))
-    return with_service(plan, state, step[1], with_next_done(own))
-
-
-def with_sent(kinds, outs, ident, sent):
-    """The outs with the messages that the run of an id sent behind their outboxes."""
-    for at, message in enumerate(sent):
-        out = 2 * kinds.index(message[0])
-        outs = with_part(outs, out, (*outs[out], ((*ident, at), message)))
-    return outs
+    return with_service(plan, state, service.name, own)
 
 
 def post(plan, state, step):

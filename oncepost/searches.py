@@ -27,7 +27,8 @@ def ends(system):
         face = face_of(graph.states[number])
         if face not in found:
             found[face] = number
-    return [(face, graph.steps_to(found[face])) for face in sorted(found, key=lambda face: repr(face))]
+    faces = sorted(found, key=lambda one: repr(one))
+    return [(face, graph.steps_to(found[face])) for face in faces]
 
 
 def needs(system, face):
@@ -56,8 +57,11 @@ def count_classes(system):
 
 def seen(system, state):
     """What is seen of an end: for each kind of the world the keys and values of its log."""
-    logs = [log_of(system.plan, state, kind) for kind in system.world]
-    return tuple([tuple([(key, value) for _, (_, key, value) in entries]) for entries, _ in logs])
+    told = []
+    for kind in system.world:
+        entries, _ = log_of(system.plan, state, kind)
+        told.append(tuple([(message[1], message[2]) for _, message in entries]))
+    return tuple(told)
 
 
 def sights(system, graph):
@@ -80,7 +84,7 @@ def alike(one, other):
     graphs = [graph_of(one), graph_of(other)]
     told = [sights(one, graphs[0]), sights(other, graphs[1])]
     for which in (0, 1):
-        own = [sight for sight in told[which] if sight not in told[1 - which]]
+        own = [view for view in told[which] if view not in told[1 - which]]
         if len(own) > 0:
             least = min(own, key=lambda sight: repr(sight))
             return (which, least, graphs[which].steps_to(told[which][least]))

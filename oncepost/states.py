@@ -34,7 +34,9 @@ def has_ident(inbox, ident):
 
 
 def with_ident(inbox, ident):
-    """The inbox with one id more."""
+    """The inbox with an id, which may be there already."""
+    if has_ident(inbox, ident):
+        return inbox
     at = place_among(inbox, ident)
     return inbox[:at] + (ident,) + inbox[at:]
 
@@ -64,6 +66,14 @@ def first_part(plan, service):
     if service.way[0] == "outbox":
         outs = ((), None) * len(plan.sent_kinds[service.name])
     return ((), (), (), outs, None, service.crashes, service.losses)
+
+
+def with_sent(kinds, outs, ident, sent):
+    """The outs with the messages that the run of an id sent behind their outboxes."""
+    for at, message in enumerate(sent):
+        out = 2 * kinds.index(message[0])
+        outs = with_part(outs, out, (*outs[out], ((*ident, at), message)))
+    return outs
 
 
 def log_of(plan, state, kind):

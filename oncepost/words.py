@@ -9,7 +9,8 @@ def born_in(system, state):
     for own in state[1]:
         for ident, _, sends in own[BOOK]:
             for at in range(sends):
-                found[(*ident, at)] = True
+                child = (*ident, at)
+                found[child] = True
     return found
 
 

@@ -37,11 +37,13 @@ class Moves:
             yield from self.listed(after, (*steps, step))
 
 
-def states_from(system, state):
-    """All states that steps lead to from a state, a list in the order in which they are found."""
+def states_from(system, state, most=10 ** 4):
+    """All states that steps lead to from a state, a list in the order in which they are found; soon more than most."""
     found = {state: True}
     waiting = [state]
     for one in waiting:
+        if len(waiting) > most:
+            break
         for step in system.possible(one):
             after = system.after(one, step)
             if after not in found:

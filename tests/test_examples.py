@@ -1,8 +1,10 @@
-"""The document's examples, word for word, but for those of later stages."""
+"""The document's examples, word for word."""
 
+import importlib
 import unittest
 
-from oncepost import errors, facts, handlers, judging, papers, schedules, searches, systems, ways
+MODULES = ("errors", "handlers", "ways", "systems", "schedules", "facts", "searches", "papers", "judging", "accounts")
+MODULES += ("forgetting", "sides", "halls")
 
 FIRST = """
 >>> handler = (("set", "n", ("+", ("row", "n"), ("body",))), ("send", "told", None, ("row", "n")))
@@ -71,28 +73,62 @@ FOURTH = """
 ('breaks', (('take', 'add'), ('commit', 'adder'), ('answer', 'add'), ('mark', 'adder', 'told'), ('crash', 'adder')))
 >>> [judge(system, "lost")[0], price(system, "again")]
 ['holds', [((1, 0),)]]
+>>> [account(Ways.SAFE, 0, 1, 0), account(("after", "plain", "behind", "behind"), 0, 2, 0)]
+[(1, 1, 1, 2), (1, 3, 1, 3)]
+>>> [witness(Ways.SAFE, word) is None for word in Words.ALL]
+[True, True, True, True, False]
 >>> mend(system, ["twice"], {"adder": [("outbox", "late", "behind", "behind"), Ways.SAFE]})
 {'adder': ('outbox', 'inbox', 'behind', 'behind')}
+"""
+
+FIFTH = """
+>>> [things(system, state), alive(system, state, ("adder", (0,)))]
+[[('adder', (0,))], (('crash', 'adder'), ('take', 'add'))]
+>>> later = system.play(("take", "add"), ("commit", "adder"), ("answer", "add"))
+>>> [kept(system, state), kept(system, later), dead(system, later)]
+[[('adder', (0,))], [], [('adder', (0,))]]
+>>> [may_forget(system, state, ("adder", (0,)))[0], may_forget(system, later, ("adder", (0,)))]
+[1, None]
+>>> [Beside(plain, plain).lengths(), Beside(system, plain).state_count(), parts(system) == [system]]
+[(0, 0, 0, 0, 0, 0, 0, 0, 0, 0, 2268), 224, True]
+"""
+
+SIXTH = """
+>>> hall = LoggedHall(plain)
+>>> hall.do(("take", "add"), ("commit", "adder"), ("relay", "adder", "told"))
+>>> hall.texts
+{'kind add': '', 'kind told': '1 relay adder 0,0 k 3 0,0,1 3240\\n', 'service adder': '1 commit add 0 0,0,0 3717\\n'}
+>>> LoggedHall.recovered(plain, hall.texts)[1]
+{'kind add': 0, 'kind told': 1, 'service adder': 1}
+>>> LoggedHall.recovered(plain, hall.texts)[0][1]
+((((('n', 'k'), 3),), ((0,),), (((0,), 1, 1),), ((((0, 0), ('told', 'k', 3)),), None), None, 0, 0),)
+>>> LoggedHall.recovered(plain, {"kind add": "", "kind told": hall.texts["kind told"], "service adder": "1 commit"})[1]
+{'kind add': 0, 'kind told': 0, 'service adder': 0}
+>>> [hall.undo(), hall.schedule, hall.undone]
+[None, (), 1]
+>>> hall.undo()
+raises OutOfRange(1)
 """
 
 
 def names():
     """All that the modules define, by name."""
     found = {}
-    for module in (errors, handlers, ways, systems, schedules, facts, searches, papers, judging):
-        found.update(vars(module))
+    for name in MODULES:
+        found.update(vars(importlib.import_module("oncepost." + name)))
     return found
 
 
 def outcome(row, known):
-    """What a row of an example shows: "" of an assignment."""
+    """What a row of an example shows: "" of an assignment, and of None."""
     try:
         code = compile(row, "example", "eval")
     except SyntaxError:
         exec(row, known)
         return ""
     try:
-        return repr(eval(code, known))
+        told = eval(code, known)
+        return "" if told is None else repr(told)
     except (ValueError, LookupError, OverflowError) as error:
         fields = ", ".join(repr(value) for value in vars(error).values())
         return f"raises {type(error).__name__}({fields})"
@@ -102,7 +138,7 @@ class TestExamples(unittest.TestCase):
     def test_document(self):
         known = names()
         shown = 0
-        for block in (FIRST, SECOND, THIRD, FOURTH):
+        for block in (FIRST, SECOND, THIRD, FOURTH, FIFTH, SIXTH):
             rows = block.strip().split("\n")
             for at, row in enumerate(rows):
                 if not row.startswith(">>> "):
@@ -111,7 +147,7 @@ class TestExamples(unittest.TestCase):
                 with self.subTest(row):
                     self.assertEqual(outcome(row[4:], known), told)
                     shown += 1
-        self.assertEqual(shown, 33)
+        self.assertEqual(shown, 48)
 
 
 if __name__ == "__main__":

@@ -3,7 +3,8 @@
 import inspect
 import unittest
 
-from oncepost import facts, handlers, judging, papers, schedules, searches, systems, ways
+from oncepost import accounts, facts, forgetting, halls, handlers, judging, papers
+from oncepost import schedules, searches, sides, systems, ways
 from oncepost.ways import Ways
 from tests.samples import adder_system
 
@@ -32,6 +33,15 @@ FUNCTIONS = [
     (judging, "judge", ["system", "word"]),
     (judging, "price", ["system", "word"]),
     (judging, "mend", ["system", "words", "choices"]),
+    (accounts, "account", ["way", "copies", "crashes", "losses"]),
+    (accounts, "witness", ["way", "word"]),
+    (forgetting, "things", ["system", "state"]),
+    (forgetting, "alive", ["system", "state", "thing"]),
+    (forgetting, "dead", ["system", "state"]),
+    (forgetting, "kept", ["system", "state"]),
+    (forgetting, "forget", ["system", "state", "things"]),
+    (forgetting, "may_forget", ["system", "state", "things"]),
+    (sides, "parts", ["system"]),
 ]
 
 # For each class its file, its arguments, its properties and its methods.
@@ -84,6 +94,32 @@ CLASSES = [
             "surely": "(self, test)",
         },
     ),
+    (
+        sides,
+        "Beside",
+        "(self, *systems)",
+        ["systems"],
+        {
+            "state_count": "(self)",
+            "end_count": "(self)",
+            "lengths": "(self)",
+            "class_count": "(self)",
+        },
+    ),
+    (
+        halls,
+        "Hall",
+        "(self, system)",
+        ["system", "state", "schedule", "undone", "depth"],
+        {
+            "do": "(self, *steps)",
+            "undo": "(self, count=1)",
+            "redo": "(self, count=1)",
+            "attempt": "(self, action)",
+            "explore": "(self, action)",
+        },
+    ),
+    (halls, "LoggedHall", "(self, system)", ["system", "state", "schedule", "undone", "depth", "texts"], {}),
 ]
 
 
@@ -107,7 +143,9 @@ class TestInterface(unittest.TestCase):
 
     def test_properties_are_there_when_an_object_is_created(self):
         system = adder_system()
-        objects = [system.services[0], system, schedules.Schedule(system)]
+        objects = [system.services[0], system, schedules.Schedule(system), sides.Beside(system)]
+        objects += [halls.Hall(system), halls.LoggedHall(system)]
+        self.assertEqual(len(objects), len(CLASSES))
         for (_, _, _, properties, _), made in zip(CLASSES, objects):
             for name in properties:
                 self.assertTrue(hasattr(made, name), name)
@@ -124,6 +162,17 @@ class TestInterface(unittest.TestCase):
         self.assertEqual(list(inspect.signature(ways.Ways.every).parameters), [])
         for name in ("SAFE", "POSTING", "KEEPING", "ANSWERING", "MARKING"):
             self.assertIn(name, vars(ways.Ways))
+
+    def test_star_arguments(self):
+        for function in (forgetting.forget, forgetting.may_forget):
+            self.assertEqual(str(inspect.signature(function)), "(system, state, *things)")
+
+    def test_logged_halls(self):
+        self.assertTrue(issubclass(halls.LoggedHall, halls.Hall))
+        told = vars(halls.LoggedHall)
+        self.assertIn("texts", told)
+        self.assertIsInstance(told["recovered"], staticmethod)
+        self.assertEqual(str(inspect.signature(halls.LoggedHall.recovered)), "(system, texts)")
 
     def test_words(self):
         self.assertEqual(judging.Words.__module__, "oncepost.judging")
