@@ -3,6 +3,8 @@
 They use nothing of the package but possible and after of a system, which are held against a plain reading elsewhere.
 """
 
+import functools
+
 from oncepost.ways import Ways
 from tests.draws import drawn_spec, system_of
 
@@ -119,14 +121,19 @@ def lessened(spec):
     spec["commands"].pop()
 
 
+@functools.lru_cache(maxsize=None)
+def drawn_listing(seed, most):
+    """A specification drawn at random, and the listing of its system, which has at most so many whole schedules."""
+    spec = drawn_ways(seed)
+    while True:
+        system = system_of(spec)
+        moves = Moves(system)
+        if moves.how_many(system.begin) <= most and len(moves.known) <= 2000:
+            return spec, Listing(system)
+        lessened(spec)
+
+
 def drawn_listings(seeds, most=1500):
     """Systems drawn at random, all whole schedules of which are listed, at most so many."""
     for seed in seeds:
-        spec = drawn_ways(seed)
-        while True:
-            system = system_of(spec)
-            moves = Moves(system)
-            if moves.how_many(system.begin) <= most and len(moves.known) <= 2000:
-                break
-            lessened(spec)
-        yield seed, spec, Listing(system)
+        yield seed, *drawn_listing(seed, most)

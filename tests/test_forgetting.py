@@ -192,6 +192,47 @@ class TestRule(unittest.TestCase):
         self.assertIs(self.told(system, *begun), True)
         self.assertIs(self.told(system, *begun, ("post", "ann", "b"), ("take", "b"), ("answer", "b")), False)
 
+    def test_held_for_one_of_two_kinds(self):
+        # What is held for b, whichever of the two kinds that ann sends it is.
+        for kinds in (["a", "b", "w"], ["a", "w", "b"]):
+            handler = (("send", "b", None, ("body",)), ("send", "w", None, ("body",)))
+            way = ("outbox", "inbox", "behind", "ahead")
+            services = [Service("ann", {"a": handler}, way, losses=1), Service("bob", {"b": ()})]
+            system = System(kinds, services, [("a", "k", 1)])
+            begun = [("take", "a"), ("commit", "ann"), ("answer", "a"), ("mark", "ann", "b"), ("lose", "ann", "b"), *self.DONE]
+            self.assertIs(self.told(system, *begun), True)
+            self.assertIs(self.told(system, *begun, ("relay", "ann", "b"), ("take", "b"), ("answer", "b")), False)
+
+    def test_on_its_way_for_a_kind_of_another_service(self):
+        # The first run of the parent sent b to bob, the second one c to cy, with the same id.
+        first = ("=", ("row", "n"), ("value", 0))
+        count = ("set", "n", ("value", 1))
+        handler = (("if", first, (("send", "b", None, ("body",)),), (("send", "c", None, ("body",)),)), count)
+        for marking in ("behind", "ahead"):
+            way = ("outbox", "late", "behind", marking)
+            services = [Service("ann", {"a": handler}, way, crashes=1), Service("bob", {"b": ()}), Service("cy", {"c": ()})]
+            system = System(["a", "b", "c"], services, [("a", "k", 1)])
+            steps = [("take", "a"), ("commit", "ann"), ("crash", "ann"), ("take", "a"), ("commit", "ann"), ("note", "ann")]
+            steps += [("answer", "a")]
+            heads = ("relay", "mark") if marking == "behind" else ("mark", "relay")
+            steps += [(head, "ann", "b") for head in heads]
+            steps += self.DONE
+            outbox = system.play(*steps)
+            self.assertEqual(kept(system, outbox), [])
+            held = system.after(outbox, (heads[0], "ann", "c"))
+            self.assertEqual(kept(system, held), [])
+            self.assertEqual(dead(system, held), [("ann", (0,)), ("bob", (0, 0))])
+        # The same in posts of a hand.
+        way = ("after", "late", "behind", "behind")
+        services = [Service("ann", {"a": handler}, way, crashes=1), Service("bob", {"b": ()}), Service("cy", {"c": ()})]
+        system = System(["a", "b", "c"], services, [("a", "k", 1)])
+        steps = [("take", "a"), ("commit", "ann"), ("post", "ann", "b"), ("crash", "ann"), ("take", "a"), ("commit", "ann")]
+        state = system.play(*steps, *self.DONE)
+        # The parent is in no inbox yet, so it may be run again.
+        self.assertEqual(kept(system, state), [self.BOB])
+        state = system.play(*steps, ("post", "ann", "c"), ("note", "ann"), *self.DONE)
+        self.assertEqual(kept(system, state), [("ann", (0,))])
+
     def test_the_parent_in_a_log(self):
         # The parent was posted for, but not yet committed: it may be run again.
         system = self.system(("before", "inbox", "behind", "behind"), crashes=1)

@@ -389,6 +389,11 @@ class TestShortByHand(unittest.TestCase):
             self.assertIs(self.look(*self.other(0, *other)), False)
         for value in odd_values():
             self.assertIs(is_short(self.system, self.other(0, (value, *steps[1:]), lines)), False)
+        # Steps twice that ask for nothing, at the end.
+        for step, line in ((CRASH, HAND), (LOSE, LOSS)):
+            self.assertIs(self.look(*self.other(5, (step,), (line,))), True)
+            self.assertIs(self.look(*self.other(5, (step, step), (line, line))), False)
+        self.assertIs(self.look(*self.other(5, (CRASH, LOSE), (HAND, LOSS))), False)
 
     def test_a_state_twice(self):
         for at, entry in enumerate(self.paper):

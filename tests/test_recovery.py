@@ -400,6 +400,13 @@ class TestLines(unittest.TestCase):
         notes = [with_sum(f"{number} note add 0 0,0,0 ") for number in (1, 2)]
         state, counts = LoggedHall.recovered(late, {**texts, "service adder": "".join(notes)})
         self.assertEqual((counts["service adder"], state[1][0][1], state[1][0][2]), (2, ((0,),), ()))
+        # Marks with too few and too many words, of other kinds, and one mark more than there are entries.
+        for what in ("mark", "mark told told", "mark told 0", "mark  told", "mark add", "mark x", "note told 0"):
+            wrong = {**texts, "service adder": first + with_sum(f"2 {what} 0,0,0 ")}
+            self.assertEqual(LoggedHall.recovered(self.system, wrong)[1]["service adder"], 1)
+        marks = "".join(with_sum(f"{number} mark told 0,0,0 ") for number in (2, 3))
+        _, counts = LoggedHall.recovered(self.system, {**texts, "service adder": first + marks})
+        self.assertEqual(counts["service adder"], 2)
         # A commit posts nothing, a mark needs an outbox.
         state, counts = LoggedHall.recovered(late, {**texts, "service adder": first + with_sum("2 mark told 0,0,0 ")})
         self.assertEqual((counts["service adder"], state[0][1], state[1][0][3]), (1, ((), 0), ()))
