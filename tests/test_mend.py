@@ -80,6 +80,18 @@ class TestMend(unittest.TestCase):
         choices = {"bob": [AHEAD, SAFE, BEFORE], "ann": [MARKED, BEFORE, SAFE]}
         self.assertEqual(mend(system, ["lost"], choices), {"ann": BEFORE, "bob": SAFE})
 
+    def test_the_order_of_the_keys_means_nothing(self):
+        # Bob gets a message twice only if ann relays it again, which with MARKED she does not.
+        services = [Service("ann", {"a": PASS}, PLAIN, crashes=1), Service("bob", {"b": ()})]
+        system = System(["a", "b"], services, [("a", "k", 1)])
+        for names in (("ann", "bob"), ("bob", "ann")):
+            lists = {"ann": [SAFE, MARKED], "bob": [PLAIN, SAFE]}
+            choices = {name: lists[name] for name in names}
+            self.assertEqual(mend(system, ["twice"], choices), {"ann": SAFE, "bob": SAFE})
+            lists = {"ann": [SAFE, MARKED], "bob": [PLAIN, PLAIN]}
+            choices = {name: lists[name] for name in names}
+            self.assertEqual(mend(system, ["twice"], choices), {"ann": MARKED, "bob": PLAIN})
+
     def test_one_of_two_services(self):
         # Bob keeps his way, with which a message is handled twice.
         system = chain(PLAIN, PLAIN)

@@ -223,6 +223,8 @@ class TestParts(unittest.TestCase):
             ([Service("s", {"c": ()}), Service("t", {"d": ()}), Service("u", {"a": sending("c", "d")})], [("stu", "acd")]),
             ([Service("s", {"c": ()}), Service("t", {"b": ()}), Service("u", {"a": sending("c")})], [("su", "ac"), ("t", "b")]),
             ([Service("r", {"e": ()}), Service("s", {"c": ()}), Service("t", {"d": ()}), Service("u", {"a": sending("c", "d")})], [("r", "e"), ("stu", "acd")]),
+            # Another one between those that are made one.
+            ([Service("r", {"e": ()}), Service("s", {"b": ()}), Service("t", {"d": ()}), Service("u", {"a": sending("d", "e")})], [("rtu", "ade"), ("s", "b")]),
         ]
         commands = [(kind, "k", 1) for kind in "abfe"]
         for services, groups in cases:
